@@ -1,0 +1,88 @@
+package prism
+
+import (
+	"math"
+	"reflect"
+	"testing"
+
+	"prism/api"
+)
+
+// conf is a configuration by its eight numbers.
+func conf(n ...int) api.Config {
+	return api.Config{Kind: n[0], Depth: n[1], Start: n[2], Slots: n[3], Width: n[4], Spin: n[5], Drain: n[6], Procs: n[7]}
+}
+
+// begin is a new tree of a configuration that must be one.
+func begin(t *testing.T, n ...int) *Tree {
+	t.Helper()
+	x, e := New(conf(n...))
+	if x == nil || e != api.OK {
+		t.Fatalf("P3: New(%v) = %v, %d", n, x, e)
+	}
+	return x
+}
+
+// spawn begins a process that must be begun, as the number want.
+func spawn(t *testing.T, x *Tree, o api.Op, want int) {
+	t.Helper()
+	if p, e := x.Spawn(o); p != want || e != api.OK {
+		t.Fatalf("P4: Spawn(%+v) = %d, %d, want %d, 0", o, p, e, want)
+	}
+}
+
+// refuse checks that a Spawn answers an error, 0 beside it, and changes nothing.
+func refuse(t *testing.T, x *Tree, o api.Op, want api.Errno) {
+	t.Helper()
+	ahead := look(x)
+	if p, e := x.Spawn(o); p != 0 || e != want {
+		t.Errorf("P4: Spawn(%+v) of %+v = %d, %d, want 0, %d", o, x.conf, p, e, want)
+	}
+	if behind := look(x); !reflect.DeepEqual(ahead, behind) {
+		t.Errorf("P1: Spawn(%+v) answered an error and changed %+v to %+v", o, ahead, behind)
+	}
+}
+
+// finish ends a process as its last step does. No call of a later stage is
+// needed for it, so that what hangs on ended processes can be tested alone.
+func finish(x *Tree, p int) {
+	x.procs[p].phase = api.Done
+	x.procs[p].node = 0
+}
+
+// seen is all that can be seen of a tree.
+type seen struct {
+	nodes []api.Node
+	procs []api.Proc
+}
+
+// look tells all that can be seen of a tree, in lists of its own. A list that
+// is empty is nil here, as an empty list may come out either way.
+func look(x *Tree) seen {
+	var s seen
+	for _, n := range x.Nodes() {
+		n.Waiting = append([]int(nil), n.Waiting...)
+		n.Items = append([]int(nil), n.Items...)
+		s.nodes = append(s.nodes, n)
+	}
+	for p := 0; ; p++ {
+		q, e := x.Proc(p)
+		if e != api.OK {
+			return s
+		}
+		s.procs = append(s.procs, q)
+	}
+}
+
+// far are numbers far below 0 and very great ones.
+func far() []int {
+	return []int{math.MinInt, math.MinInt + 1, math.MinInt32 - 1, math.MinInt32, -1 << 40, -1000, 1000, math.MaxInt32, math.MaxInt32 + 1, 1 << 40, 1 << 62, math.MaxInt - 1, math.MaxInt}
+}
+
+// same checks that two looks at trees tell the same.
+func same(t *testing.T, promise string, got, want seen) {
+	t.Helper()
+	if !reflect.DeepEqual(got, want) {
+		t.Errorf("%s: got %+v, want %+v", promise, got, want)
+	}
+}
