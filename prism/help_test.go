@@ -43,11 +43,75 @@ func refuse(t *testing.T, x *Tree, o api.Op, want api.Errno) {
 	}
 }
 
-// finish ends a process as its last step does. No call of a later stage is
-// needed for it, so that what hangs on ended processes can be tested alone.
-func finish(x *Tree, p int) {
-	x.procs[p].phase = api.Done
-	x.procs[p].node = 0
+// finish lets a process take steps until it is Done, as it must be soon when
+// nobody else takes one.
+func finish(t *testing.T, x *Tree, p int) {
+	t.Helper()
+	for range 200 {
+		ph, e := x.Step(p, 0)
+		if e != api.OK {
+			t.Fatalf("P6: Step(%d) of one that is live = %d, %d", p, ph, e)
+		}
+		if ph == api.Done {
+			return
+		}
+	}
+	t.Fatalf("P6: process %d is not Done behind 200 steps", p)
+}
+
+// walk lets a process take steps, all with one draw: the phases behind them
+// must be these.
+func walk(t *testing.T, x *Tree, p, draw int, phases ...int) {
+	t.Helper()
+	for i, want := range phases {
+		if ph, e := x.Step(p, draw); ph != want || e != api.OK {
+			t.Fatalf("step %d of process %d: phase %d, %d, want %d", i, p, ph, e, want)
+		}
+	}
+}
+
+// takes lets a process take a step. Behind it the process must stand where want
+// says, and the node where it stood must be as edit makes it; all else must be
+// as it was (P16). An edit that is nil changes nothing.
+func takes(t *testing.T, x *Tree, p, draw int, want api.Proc, edit func(n *api.Node)) {
+	t.Helper()
+	wanted := look(x)
+	at := wanted.procs[p].Node
+	wanted.procs[p] = want
+	for i := range wanted.nodes {
+		if wanted.nodes[i].Num == at && edit != nil {
+			edit(&wanted.nodes[i])
+		}
+	}
+	if ph, e := x.Step(p, draw); ph != want.Phase || e != api.OK {
+		t.Errorf("Step(%d, %d) = %d, %d, want %d, 0", p, draw, ph, e, want.Phase)
+	}
+	same(t, "a step", look(x), wanted)
+}
+
+// at is where a process stands.
+func at(phase, node, val int) api.Proc {
+	return api.Proc{Phase: phase, Node: node, Val: val}
+}
+
+// stands checks where a process stands.
+func stands(t *testing.T, x *Tree, p int, want api.Proc) {
+	t.Helper()
+	if q, e := x.Proc(p); q != want || e != api.OK {
+		t.Errorf("Proc(%d) = %+v, %d, want %+v", p, q, e, want)
+	}
+}
+
+// nodeOf is what Nodes tells of a node, which must be there.
+func nodeOf(t *testing.T, x *Tree, v int) api.Node {
+	t.Helper()
+	for _, n := range x.Nodes() {
+		if n.Num == v {
+			return n
+		}
+	}
+	t.Fatalf("P5: node %d is not there", v)
+	return api.Node{}
 }
 
 // seen is all that can be seen of a tree.

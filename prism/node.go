@@ -17,11 +17,21 @@ const (
 type slot struct {
 	state int
 	who   int // who waits here or was met here, unless the slot is free
+	by    int // who met it, if it was met
 }
 
-// item is a value that lies in a leaf of a pool.
+// The states of what a leaf of a pool has under a ticket. Awaited is 0, so that
+// a ticket that was just handed out has no item yet.
+const (
+	itemAwaited = 0
+	itemLies    = 1
+	itemTaken   = 2
+)
+
+// item is what a leaf of a pool has under a ticket.
 type item struct {
-	ticket, val int
+	state int
+	val   int // the value, if it lies
 }
 
 // node is what a node of the tree holds; its number is its index in the tree.
@@ -33,8 +43,8 @@ type node struct {
 	toggle, width int
 	slots         [api.MaxWidth]slot
 
-	// Of a leaf. The items are kept by rising tickets, the order in which
-	// they are told.
+	// Of a leaf. The ticket of an item is its index: a Put must know whether
+	// an item was taken away or never lay, so all tickets of Puts stay.
 	puts, gets int
 	items      []item
 }
@@ -104,11 +114,13 @@ func (n *node) waiting(width int) []int {
 	return list
 }
 
-// values lists the values of a leaf's items in their order.
+// values lists the values of the items that lie in a leaf, in their order.
 func (n *node) values() []int {
 	var list []int
 	for i := 0; i < len(n.items); i++ {
-		list = append(list, n.items[i].val)
+		if n.items[i].state == itemLies {
+			list = append(list, n.items[i].val)
+		}
 	}
 	return list
 }

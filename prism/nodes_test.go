@@ -21,9 +21,12 @@ func uneven(t *testing.T) *Tree {
 	x.nodes[1].slots[2] = slot{state: slotFree, who: 4}
 	x.nodes[1].puts = 3
 	x.nodes[1].gets = 2
-	x.nodes[1].items = []item{{0, 1}}
+	x.nodes[1].items = []item{{state: itemLies, val: 1}}
 	x.nodes[2].shut = true
-	x.nodes[3] = node{there: true, inside: 4, puts: 8, gets: 3, toggle: 1, width: 2, items: []item{{3, -5}, {4, math.MaxInt}, {6, 0}, {7, -5}}}
+	x.nodes[3] = node{there: true, inside: 4, puts: 8, gets: 3, toggle: 1, width: 2, items: []item{
+		{state: itemTaken}, {state: itemTaken, val: 9}, {state: itemTaken}, {state: itemLies, val: -5},
+		{state: itemLies, val: math.MaxInt}, {state: itemAwaited, val: 9}, {state: itemLies, val: 0}, {state: itemLies, val: -5},
+	}}
 	x.nodes[3].slots[0] = slot{state: slotWaits, who: 1}
 	x.nodes[5].shut = true
 	x.nodes[6] = node{}
@@ -102,7 +105,7 @@ func TestNodesAreLeftAlone(t *testing.T) {
 	spawn(t, x, api.Op{Kind: api.Fold, Node: 1}, 1)
 	x.Nodes()
 	x.nodes[1].slots[0] = slot{}
-	x.nodes[3].items[0].val = 12
+	x.nodes[3].items[3].val = 12
 	x.Nodes()
 	for _, n := range outer {
 		if n.Num != 4711 || n.Waiting != nil || n.Items != nil {
@@ -152,7 +155,7 @@ func TestTreesDoNotTouch(t *testing.T) {
 		spawn(t, y, api.Op{Kind: api.Unfold, Node: 1}, p)
 	}
 	refuse(t, y, api.Op{Kind: api.Get}, api.ErrFull)
-	y.nodes[2].items = append(y.nodes[2].items, item{0, 4})
+	y.nodes[2].items = append(y.nodes[2].items, item{state: itemLies, val: 4})
 	y.nodes[1].slots[1] = slot{state: slotWaits, who: 2}
 	scribble(y.Nodes())
 	spawn(t, x, api.Op{Kind: api.Fold, Node: 1}, 1)

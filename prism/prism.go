@@ -60,7 +60,13 @@ func (t *Tree) Nodes() []api.Node {
 }
 
 // Step lets a process take a step (P6 to P9).
-func (t *Tree) Step(p int, draw int) (int, api.Errno) { return 0, api.OK }
+func (t *Tree) Step(p int, draw int) (int, api.Errno) {
+	if p < 0 || p >= len(t.procs) || t.procs[p].phase == api.Done {
+		return 0, api.ErrProc
+	}
+	t.step(p, draw)
+	return t.procs[p].phase, api.OK
+}
 
 // Rest lets all live processes take steps, round by round (P10).
 func (t *Tree) Rest(rounds int, draw int) (int, api.Errno) { return 0, api.OK }

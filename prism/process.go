@@ -8,6 +8,14 @@ type process struct {
 	phase int
 	node  int
 	val   int
+
+	// What it has read at an inner node: the width, its slot, and who waited
+	// in that slot.
+	width, slot, mind int
+
+	patience int
+
+	ticket int // at a leaf of a pool
 }
 
 // newProcess is a process of the operation o that has taken no step yet.

@@ -106,7 +106,7 @@ func TestSpawnFull(t *testing.T) {
 			refuse(t, x, api.Op{Kind: api.Fold, Node: 1}, api.ErrFull)
 			refuse(t, x, api.Op{Kind: api.Fold, Node: 2}, api.ErrOp)
 			refuse(t, x, api.Op{Kind: -1}, api.ErrOp)
-			finish(x, procs/2)
+			finish(t, x, procs/2)
 			spawn(t, x, api.Op{Kind: api.Unfold, Node: 1}, procs)
 			refuse(t, x, good(kind), api.ErrFull)
 		}
@@ -128,9 +128,13 @@ func spent(t *testing.T, kind, procs, live int) *Tree {
 	t.Helper()
 	x := begin(t, kind, 1, 1, 1, 1, 0, 0, procs)
 	for p := 0; p < 256; p++ {
-		spawn(t, x, good(kind), p)
+		o := good(kind)
+		if kind == api.Pool && p%2 == 1 {
+			o = api.Op{Kind: api.Get} // it makes room again
+		}
+		spawn(t, x, o, p)
 		if p < 256-live {
-			finish(x, p)
+			finish(t, x, p)
 		}
 	}
 	return x
@@ -154,11 +158,11 @@ func TestSpawnErrorsAreNotCounted(t *testing.T) {
 	for i := 0; i < 1000; i++ {
 		refuse(t, x, api.Op{Kind: api.Inc}, api.ErrOp)
 	}
-	spawn(t, x, api.Op{Kind: api.Get}, 0)
+	spawn(t, x, api.Op{Kind: api.Put}, 0)
 	for i := 0; i < 1000; i++ {
 		refuse(t, x, api.Op{Kind: api.Get}, api.ErrFull)
 	}
-	finish(x, 0)
+	finish(t, x, 0)
 	spawn(t, x, api.Op{Kind: api.Get}, 1)
 }
 
@@ -190,7 +194,7 @@ func checkNoProc(t *testing.T, x *Tree, count int) {
 func TestProcOfASpentTree(t *testing.T) {
 	x := spent(t, 0, 2, 1)
 	for p := 0; p < 255; p++ {
-		if q, e := x.Proc(p); q != (api.Proc{Phase: api.Done}) || e != api.OK {
+		if q, e := x.Proc(p); q != at(api.Done, 0, p) || e != api.OK {
 			t.Errorf("P5: Proc(%d) = %+v, %d, want one that is Done", p, q, e)
 		}
 	}
