@@ -45,7 +45,7 @@ func leaf(t *testing.T, x *Tree, v, puts, gets int, items ...int) {
 	}
 }
 
-// The document's examples without Folds and Unfolds, call by call.
+// The document's examples, call by call; but the one that only a script can be.
 
 func TestExampleOneLeaf(t *testing.T) {
 	x := begin(t, 0, 0, 0, 1, 1, 0, 0, 1)
@@ -132,4 +132,63 @@ func TestExampleFullLeaf(t *testing.T) {
 	checkLive(t, rounds(t, x, 9, 0), 0)
 	stands(t, x, 3, at(20, 0, 5))
 	leaf(t, x, 1, 3, 1, 6, 7)
+}
+
+func TestExampleUnfoldAndFold(t *testing.T) {
+	x := begin(t, 1, 1, 0, 1, 1, 0, 0, 3)
+	spawn(t, x, put(5), 0)
+	spawn(t, x, put(6), 1)
+	checkLive(t, rounds(t, x, 9, 0), 0)
+	spawn(t, x, unfold(1), 2)
+	walk(t, x, 2, 0, 16, 17, 20)
+	stands(t, x, 2, at(20, 0, 1))
+	leaf(t, x, 2, 1, 0, 5)
+	leaf(t, x, 3, 1, 0, 6)
+	spawn(t, x, fold(1), 3)
+	checkLive(t, rounds(t, x, 9, 0), 0)
+	stands(t, x, 3, at(20, 0, 1))
+	leaf(t, x, 1, 2, 0, 5, 6)
+	checkShape(t, x, -1)
+}
+
+func TestExampleSomebodyInside(t *testing.T) {
+	x := begin(t, 1, 1, 1, 1, 1, 0, 1, 3)
+	spawn(t, x, get(), 0)
+	checkLive(t, rounds(t, x, 20, 0), 1)
+	spawn(t, x, fold(1), 1)
+	refuse(t, x, fold(2), api.ErrOp)
+	checkLive(t, rounds(t, x, 9, 0), 1)
+	stands(t, x, 0, at(14, 3, 0))
+	stands(t, x, 1, at(20, 0, 3))
+}
+
+func TestExampleSentBack(t *testing.T) {
+	x := begin(t, 1, 1, 1, 1, 1, 0, 1, 3)
+	spawn(t, x, get(), 0)
+	spawn(t, x, fold(1), 1)
+	checkLive(t, rounds(t, x, 30, 0), 1)
+	stands(t, x, 0, at(14, 1, 0))
+	stands(t, x, 1, at(20, 0, 1))
+}
+
+func TestExampleNotThere(t *testing.T) {
+	x := begin(t, 0, 2, 1, 1, 1, 0, 0, 2)
+	for p, c := range []struct{ target, val int }{{2, 2}, {1, 1}, {1, 2}} {
+		spawn(t, x, fold(c.target), p)
+		checkLive(t, rounds(t, x, 9, 0), 0)
+		stands(t, x, p, at(20, 0, c.val))
+	}
+	leaf(t, x, 1, 0, 0)
+	checkShape(t, x, -1)
+}
+
+func TestExampleNotLeaves(t *testing.T) {
+	x := begin(t, 0, 2, 2, 1, 1, 0, 0, 2)
+	spawn(t, x, fold(1), 0)
+	checkLive(t, rounds(t, x, 9, 0), 0)
+	stands(t, x, 0, at(20, 0, 4))
+	refuse(t, x, unfold(4), api.ErrOp)
+	spawn(t, x, unfold(3), 1)
+	checkLive(t, rounds(t, x, 9, 0), 0)
+	stands(t, x, 1, at(20, 0, 2))
 }

@@ -3,6 +3,7 @@ package prism
 import (
 	"math"
 	"reflect"
+	"slices"
 	"testing"
 
 	"prism/api"
@@ -149,4 +150,74 @@ func same(t *testing.T, promise string, got, want seen) {
 	if !reflect.DeepEqual(got, want) {
 		t.Errorf("%s: got %+v, want %+v", promise, got, want)
 	}
+}
+
+func fold(v int) api.Op { return api.Op{Kind: api.Fold, Node: v} }
+
+func unfold(v int) api.Op { return api.Op{Kind: api.Unfold, Node: v} }
+
+// do lets a new process, number p, do its operation to the end while nobody
+// else takes a step: its Val must be this.
+func do(t *testing.T, x *Tree, p int, o api.Op, val int) {
+	t.Helper()
+	spawn(t, x, o, p)
+	finish(t, x, p)
+	stands(t, x, p, at(api.Done, 0, val))
+}
+
+// approach lets a new Fold or Unfold, number p, walk to its target, past nodes
+// whose gates are open.
+func approach(t *testing.T, x *Tree, p int, o api.Op) {
+	t.Helper()
+	spawn(t, x, o, p)
+	depth, _ := place(o.Node)
+	for d := 1; d < depth; d++ {
+		walk(t, x, p, 0, api.Look, api.Enter)
+	}
+	if depth > 0 {
+		walk(t, x, p, 0, api.Look, api.Shut)
+	}
+	stands(t, x, p, at(api.Shut, o.Node, 0))
+}
+
+// above is where a process stands that has turned from node v to its parent.
+func above(v, val int) api.Proc {
+	if v == 1 {
+		return at(api.Done, 0, val)
+	}
+	return at(api.Leave, v/2, val)
+}
+
+// innerNode and leafNode are what Nodes tells of a node that a change has made.
+func innerNode(v, inside, toggle, slots int) api.Node {
+	n := api.Node{Num: v, Inner: true, Inside: inside, Toggle: toggle, Width: 1}
+	n.Depth, n.Rank = place(v)
+	for range slots {
+		n.Waiting = append(n.Waiting, api.None)
+	}
+	return n
+}
+
+func leafNode(v, inside, puts int, items ...int) api.Node {
+	n := api.Node{Num: v, Inside: inside, Puts: puts}
+	n.Depth, n.Rank = place(v)
+	n.Items = append(n.Items, items...)
+	return n
+}
+
+// becomes lets a process take the step of Change. Behind it the process must
+// have turned to the parent with Changed, and in the place of its node and that
+// one's children there must be these nodes; all else must be as it was.
+func becomes(t *testing.T, x *Tree, p int, list ...api.Node) {
+	t.Helper()
+	wanted := look(x)
+	v := wanted.procs[p].Node
+	wanted.procs[p] = above(v, api.Changed)
+	wanted.nodes = slices.DeleteFunc(wanted.nodes, func(n api.Node) bool { return n.Num == v || n.Num/2 == v })
+	wanted.nodes = append(wanted.nodes, list...)
+	slices.SortFunc(wanted.nodes, func(a, b api.Node) int { return a.Num - b.Num })
+	if ph, e := x.Step(p, 0); ph != wanted.procs[p].Phase || e != api.OK {
+		t.Errorf("P9: Step(%d) = %d, %d, want %d, 0", p, ph, e, wanted.procs[p].Phase)
+	}
+	same(t, "P9", look(x), wanted)
 }

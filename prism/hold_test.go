@@ -38,17 +38,39 @@ func (w *watched) step(t *testing.T, p, draw int) {
 	if e != api.OK || ph != behind.procs[p].Phase {
 		t.Fatalf("P6: Step(%d, %d) of %+v = %d, %d", p, draw, ahead, ph, e)
 	}
-	at := ahead.procs[p].Node
+	at := ahead.procs[p]
 	ahead.procs[p] = behind.procs[p]
-	for i := range ahead.nodes {
-		if ahead.nodes[i].Num == at && i < len(behind.nodes) {
-			ahead.nodes[i] = behind.nodes[i]
+	if !reflect.DeepEqual(ahead.procs, behind.procs) || !reflect.DeepEqual(elsewhere(ahead, at), elsewhere(behind, at)) {
+		t.Fatalf("P16: a step of %d at %+v made %+v of %+v", p, at, behind, ahead)
+	}
+	checkTree(t, behind)
+	w.stepped[p] = true
+}
+
+// elsewhere are the nodes that a step may not change of one that stands so.
+func elsewhere(s seen, at api.Proc) []api.Node {
+	return slices.DeleteFunc(slices.Clone(s.nodes), func(n api.Node) bool {
+		return n.Num == at.Node || at.Phase == api.Change && n.Num/2 == at.Node
+	})
+}
+
+// checkTree checks that the root is there, and just the children of inner nodes.
+func checkTree(t *testing.T, s seen) {
+	t.Helper()
+	want := map[int]bool{1: true}
+	for _, n := range s.nodes {
+		if !want[n.Num] {
+			t.Fatalf("P5: node %d is there: %+v", n.Num, s)
+		}
+		delete(want, n.Num)
+		if n.Inner {
+			want[2*n.Num] = true
+			want[2*n.Num+1] = true
 		}
 	}
-	if !reflect.DeepEqual(ahead, behind) {
-		t.Fatalf("P16: a step of %d at node %d: %+v, but for it and its node %+v", p, at, behind, ahead)
+	if len(want) > 0 {
+		t.Fatalf("P5: the nodes %v are not there: %+v", want, s)
 	}
-	w.stepped[p] = true
 }
 
 func (w *watched) live() []int {
@@ -66,6 +88,7 @@ func (w *watched) check(t *testing.T) {
 	t.Helper()
 	s := look(w.tree)
 	checkInside(t, s)
+	checkGates(t, s)
 	checkVals(t, s, w.ops)
 	if w.isStill(s) {
 		w.checkEven(t, s)
@@ -90,6 +113,22 @@ func checkInside(t *testing.T, s seen) {
 	for _, n := range s.nodes {
 		if n.Inside != inside[n.Num] {
 			t.Fatalf("P16: Inside of %+v, want %d: %+v", n, inside[n.Num], s)
+		}
+	}
+}
+
+// checkGates: a gate is shut as long as one is at it that has shut it.
+func checkGates(t *testing.T, s seen) {
+	t.Helper()
+	holders := make([]int, 32)
+	for _, q := range s.procs {
+		if q.Phase == api.Drain || q.Phase == api.Change || q.Phase == api.Reopen {
+			holders[q.Node]++
+		}
+	}
+	for _, n := range s.nodes {
+		if n.Shut != (holders[n.Num] == 1) || holders[n.Num] > 1 {
+			t.Fatalf("P9: %d hold the gate of %+v: %+v", holders[n.Num], n, s)
 		}
 	}
 }
@@ -228,6 +267,17 @@ func someConfig(r *rand.Rand, kind int) []int {
 	return []int{kind, depth, r.Intn(depth + 1), 1 + r.Intn(4), 1 + r.Intn(4), r.Intn(9), r.Intn(17), 1 + r.Intn(16)}
 }
 
+// someOp is an operation of a tree, drawn from r: of so many one changes a node.
+func someOp(r *rand.Rand, c api.Config, many int) api.Op {
+	if c.Depth > 0 && r.Intn(many) == 0 {
+		return api.Op{Kind: api.Fold + r.Intn(2), Node: 1 + r.Intn(1<<c.Depth-1)}
+	}
+	list := ops(c.Kind)
+	o := list[r.Intn(len(list))]
+	o.Val = r.Intn(3) - 1
+	return o
+}
+
 // Walks drawn from a fixed seed: a few processes take steps at a time, so that
 // they meet, and the tree comes to be still every now and then.
 func TestWalks(t *testing.T) {
@@ -235,22 +285,23 @@ func TestWalks(t *testing.T) {
 		r := rand.New(rand.NewSource(int64(seed)))
 		w := watch(t, someConfig(r, seed%2)...)
 		greed := 1 + r.Intn(5)
-		for range 400 {
-			list := w.live()
-			if len(list) < w.tree.conf.Procs && len(w.ops) < api.MaxSpawns && r.Intn(12) == 0 {
-				o := ops(seed % 2)[r.Intn(len(ops(seed%2)))]
-				o.Val = r.Intn(3) - 1
-				w.spawn(t, o)
+		many := 1 + r.Intn(8)
+		for range 3 {
+			for range 200 {
+				list := w.live()
+				if len(list) < w.tree.conf.Procs && len(w.ops) < api.MaxSpawns && r.Intn(12) == 0 {
+					w.spawn(t, someOp(r, w.tree.conf, many))
+				}
+				if len(list) > greed {
+					list = list[:greed]
+				}
+				if len(list) > 0 {
+					w.step(t, list[r.Intn(len(list))], r.Intn(100)-50)
+				}
+				w.check(t)
 			}
-			if len(list) > greed {
-				list = list[:greed]
-			}
-			if len(list) > 0 {
-				w.step(t, list[r.Intn(len(list))], r.Intn(100)-50)
-			}
-			w.check(t)
+			w.rest(t, r)
 		}
-		w.rest(t, r)
 	}
 }
 
@@ -268,6 +319,20 @@ func (w *watched) clone() *watched {
 	return &watched{tree: &x, ops: w.ops, stepped: slices.Clone(w.stepped)}
 }
 
+// hurry is rest by rising numbers, with a look at the end alone.
+func (w *watched) hurry(t *testing.T) {
+	t.Helper()
+	c := w.tree.conf
+	for range (c.Procs+1)*(c.Drain+8) + (c.Depth+1)*(c.Spin+12) {
+		for p := range w.ops {
+			w.tree.Step(p, 0)
+			w.stepped[p] = true
+		}
+	}
+	w.check(t)
+	w.checkEnd(t)
+}
+
 // explore goes through everything that can come of a tree whose processes are
 // all begun. It tells how many trees it saw.
 func explore(t *testing.T, first *watched) int {
@@ -278,6 +343,7 @@ func explore(t *testing.T, first *watched) int {
 		w := next[len(next)-1]
 		next = next[:len(next)-1]
 		w.check(t)
+		w.clone().hurry(t)
 		for _, p := range w.live() {
 			for draw := range w.tree.conf.Width {
 				v := w.clone()
@@ -294,7 +360,7 @@ func explore(t *testing.T, first *watched) int {
 
 // Every order of the steps of a few processes.
 func TestEveryOrder(t *testing.T) {
-	i, p, g := api.Op{Kind: api.Inc}, api.Op{Kind: api.Put, Val: 5}, api.Op{Kind: api.Get}
+	i, p, g := api.Op{Kind: api.Inc}, put(5), get()
 	for _, c := range []struct {
 		conf []int
 		ops  []api.Op
@@ -303,10 +369,17 @@ func TestEveryOrder(t *testing.T) {
 		{[]int{0, 1, 1, 1, 1, 1, 0, 3}, []api.Op{i, i}},
 		{[]int{0, 1, 1, 1, 1, 0, 0, 3}, []api.Op{i, i, i}},
 		{[]int{0, 2, 2, 1, 2, 0, 0, 3}, []api.Op{i, i}},
-		{[]int{1, 0, 0, 1, 1, 0, 0, 4}, []api.Op{p, g, {Kind: api.Put, Val: 6}, g}},
-		{[]int{1, 1, 1, 1, 1, 0, 0, 3}, []api.Op{p, g, {Kind: api.Put, Val: 6}}},
+		{[]int{1, 0, 0, 1, 1, 0, 0, 4}, []api.Op{p, g, put(6), g}},
+		{[]int{1, 1, 1, 1, 1, 0, 0, 3}, []api.Op{p, g, put(6)}},
 		{[]int{1, 1, 1, 1, 1, 0, 0, 3}, []api.Op{p, g, g}},
 		{[]int{1, 2, 2, 1, 1, 1, 0, 2}, []api.Op{p, g}},
+		{[]int{0, 1, 1, 1, 1, 0, 1, 3}, []api.Op{i, fold(1), i}},
+		{[]int{0, 1, 0, 1, 1, 0, 1, 4}, []api.Op{i, unfold(1), fold(1), i}},
+		{[]int{0, 2, 1, 1, 1, 0, 1, 5}, []api.Op{unfold(2), fold(1), fold(2), fold(3), unfold(1)}},
+		{[]int{0, 2, 2, 1, 1, 0, 1, 4}, []api.Op{i, fold(2), fold(1), unfold(2)}},
+		{[]int{1, 1, 1, 1, 1, 0, 0, 3}, []api.Op{p, fold(1), g}},
+		{[]int{1, 1, 1, 1, 1, 0, 1, 4}, []api.Op{p, fold(1), unfold(1), put(6)}},
+		{[]int{1, 1, 0, 1, 1, 0, 0, 4}, []api.Op{p, unfold(1), g, put(6)}},
 	} {
 		w := watch(t, c.conf...)
 		for _, o := range c.ops {

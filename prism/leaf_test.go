@@ -297,16 +297,5 @@ func TestNodesAreTheCallersInTheMidst(t *testing.T) {
 	walk(t, x, 5, 0, api.Enter)
 	finish(t, x, 5)
 	finish(t, x, 4)
-	for _, n := range outer {
-		if n.Num != 4711 {
-			t.Errorf("P2: the outer list was written into: %+v", n)
-		}
-	}
-	for _, list := range inner {
-		for _, k := range list {
-			if k != 4711 {
-				t.Errorf("P2: a list that came out was written into: %v", list)
-			}
-		}
-	}
+	checkScribbled(t, outer, inner)
 }

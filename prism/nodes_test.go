@@ -107,6 +107,12 @@ func TestNodesAreLeftAlone(t *testing.T) {
 	x.nodes[1].slots[0] = slot{}
 	x.nodes[3].items[3].val = 12
 	x.Nodes()
+	checkScribbled(t, outer, inner)
+}
+
+// checkScribbled checks that lists hold what scribble wrote into them.
+func checkScribbled(t *testing.T, outer []api.Node, inner [][]int) {
+	t.Helper()
 	for _, n := range outer {
 		if n.Num != 4711 || n.Waiting != nil || n.Items != nil {
 			t.Errorf("P2: the outer list was written into: %+v", n)
@@ -121,20 +127,26 @@ func TestNodesAreLeftAlone(t *testing.T) {
 	}
 }
 
-// Each list gets a number of its own, and must still hold it when all have one.
 func TestNodesShareNoMemory(t *testing.T) {
 	for _, x := range []*Tree{uneven(t), begin(t, 1, 4, 4, 4, 4, 0, 0, 2), begin(t, 0, 4, 3, 4, 1, 0, 0, 2)} {
-		all := append(lists(x.Nodes()), lists(x.Nodes())...)
-		for k, list := range all {
-			for i := range list {
-				list[i] = k
-			}
+		checkApart(t, x)
+	}
+}
+
+// checkApart gives each list that Nodes tells, in two answers, a number of its
+// own: it must still hold it when all have one.
+func checkApart(t *testing.T, x *Tree) {
+	t.Helper()
+	all := append(lists(x.Nodes()), lists(x.Nodes())...)
+	for k, list := range all {
+		for i := range list {
+			list[i] = k
 		}
-		for k, list := range all {
-			for i := range list {
-				if list[i] != k {
-					t.Errorf("P2: list %d shares memory with list %d", k, list[i])
-				}
+	}
+	for k, list := range all {
+		for i := range list {
+			if list[i] != k {
+				t.Errorf("P2: list %d shares memory with list %d", k, list[i])
 			}
 		}
 	}

@@ -3,8 +3,7 @@ package prism
 import "prism/api"
 
 // step lets process p, which is there and live, take a step. A live process
-// stands at a node that is there, so its node is an index of nodes. A Fold or
-// an Unfold that has got to its target stays there.
+// stands at a node that is there, so its node is an index of nodes.
 func (t *Tree) step(p int, draw int) {
 	q := &t.procs[p]
 	n := &t.nodes[q.node]
@@ -23,6 +22,8 @@ func (t *Tree) step(p int, draw int) {
 		q.turn(n)
 	case api.Ticket, api.Store, api.Fetch:
 		t.stepAtLeaf(q, n)
+	case api.Shut, api.Drain, api.Change, api.Reopen:
+		t.stepAtTarget(q, n)
 	case api.Leave:
 		n.inside--
 		q.leave()

@@ -116,51 +116,6 @@ func TestEnterAndLookBelow(t *testing.T) {
 	}
 }
 
-// A gate that is shut sends every operation back, as often as it comes, be the
-// node inner or a leaf.
-func TestBackFromAGate(t *testing.T) {
-	for kind := 0; kind <= 1; kind++ {
-		for _, o := range all(kind, 2) {
-			for start := 0; start <= 2; start++ {
-				x := begin(t, kind, 2, start, 1, 1, 0, 0, 2)
-				x.nodes[1].shut = true
-				spawn(t, x, o, 0)
-				for range 3 {
-					takes(t, x, 0, 0, at(api.Look, 1, 0), grows)
-					takes(t, x, 0, 0, at(api.Back, 1, 0), nil)
-					takes(t, x, 0, 0, at(api.Enter, 1, 0), falls)
-				}
-				takes(t, x, 0, 0, at(api.Look, 1, 0), grows)
-				takes(t, x, 0, 0, at(api.Back, 1, 0), nil)
-				x.nodes[1].shut = false
-				takes(t, x, 0, 0, at(api.Enter, 1, 0), falls)
-				takes(t, x, 0, 0, at(api.Look, 1, 0), grows)
-				if ph, e := x.Step(0, 0); ph == api.Back || e != api.OK {
-					t.Errorf("P6: %+v was sent back from an open gate", o)
-				}
-			}
-		}
-	}
-}
-
-// The gate of another node does not matter, nor one that is shut behind Look.
-func TestGatesElsewhere(t *testing.T) {
-	x := begin(t, 0, 2, 2, 1, 1, 0, 0, 2)
-	spawn(t, x, api.Op{Kind: api.Inc}, 0)
-	x.nodes[2].shut = true
-	x.nodes[3].shut = true
-	takes(t, x, 0, 0, at(api.Look, 1, 0), grows)
-	takes(t, x, 0, 0, at(api.Wide, 1, 0), nil)
-	x.nodes[1].shut = true
-	walk(t, x, 0, 0, pastInner[2:]...)
-	takes(t, x, 0, 0, at(api.Look, 2, 0), grows)
-	takes(t, x, 0, 0, at(api.Back, 2, 0), nil)
-	takes(t, x, 0, 0, at(api.Enter, 2, 0), falls)
-	x.nodes[2].shut = false
-	walk(t, x, 0, 0, pastInner...)
-	stands(t, x, 0, at(api.Enter, 4, 0))
-}
-
 // The way of a Fold or an Unfold to each target of a full tree, and no further:
 // the nodes above it, from the root down.
 func TestLookForEachTarget(t *testing.T) {
