@@ -8,23 +8,24 @@ import (
 )
 
 // rounds lets every live process take one step in each round, by rising
-// numbers, with the draws of the document's rounds; it tells how many are live.
+// numbers, with the draws of the document's rounds, by single calls of Step; it
+// tells how many are live behind them.
 func rounds(t *testing.T, x *Tree, often, draw int) int {
 	t.Helper()
-	live := 0
 	for k := range often {
-		live = 0
 		for p, q := range look(x).procs {
 			if q.Phase == api.Done {
 				continue
 			}
-			ph, e := x.Step(p, modulo64(draw, 12)+k+p)
-			if e != api.OK {
+			if ph, e := x.Step(p, modulo64(draw, 12)+k+p); e != api.OK {
 				t.Fatalf("P6: Step(%d) = %d, %d", p, ph, e)
 			}
-			if ph != api.Done {
-				live++
-			}
+		}
+	}
+	live := 0
+	for _, q := range look(x).procs {
+		if q.Phase != api.Done {
+			live++
 		}
 	}
 	return live
@@ -45,7 +46,8 @@ func leaf(t *testing.T, x *Tree, v, puts, gets int, items ...int) {
 	}
 }
 
-// The document's examples, call by call; but the one that only a script can be.
+// The document's examples, call by call and step by step; but the one that only
+// a script can be. (By Play they are in play_test.go.)
 
 func TestExampleOneLeaf(t *testing.T) {
 	x := begin(t, 0, 0, 0, 1, 1, 0, 0, 1)

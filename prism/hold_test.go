@@ -305,6 +305,73 @@ func TestWalks(t *testing.T) {
 	}
 }
 
+// rests lets rounds go by in one Rest. In a second tree the same steps are taken
+// one by one, each of them checked; the two must then tell the same.
+func (w *watched) rests(t *testing.T, often, draw int) {
+	t.Helper()
+	v := w.clone()
+	for k := range often {
+		for _, p := range v.live() {
+			v.step(t, p, modulo64(draw, 12)+k+p)
+			v.check(t)
+		}
+	}
+	live, e := w.tree.Rest(often, draw)
+	if want := len(v.live()); live != want || e != api.OK {
+		t.Fatalf("P10: Rest(%d, %d) = %d, %d, want %d, 0", often, draw, live, e, want)
+	}
+	same(t, "P10", look(w.tree), look(v.tree))
+	w.stepped = v.stepped
+	w.check(t)
+}
+
+// settle lets so many rounds go by, in Rests alone, that everything must have
+// come to its end, and checks that it has.
+func (w *watched) settle(t *testing.T, r *rand.Rand) {
+	t.Helper()
+	c := w.tree.conf
+	left := (c.Procs+1)*(c.Drain+8) + (c.Depth+1)*(c.Spin+12)
+	for left > 0 {
+		often := min(left, 1+r.Intn(api.MaxRounds))
+		if live, e := w.tree.Rest(often, r.Int()-r.Int()); live != len(w.live()) || e != api.OK {
+			t.Fatalf("P10: Rest(%d) = %d, %d, want %d, 0", often, live, e, len(w.live()))
+		}
+		left -= often
+		for p := range w.stepped {
+			w.stepped[p] = true
+		}
+		w.check(t)
+	}
+	w.checkEnd(t)
+}
+
+// Walks drawn from a fixed seed, in which Rests stand among the Spawns and the
+// Steps; behind them the rounds of P15, by Rests and, in a second tree, in any
+// order.
+func TestWalksWithRests(t *testing.T) {
+	for seed := range 150 {
+		r := rand.New(rand.NewSource(int64(1000 + seed)))
+		w := watch(t, someConfig(r, seed%2)...)
+		many := 1 + r.Intn(8)
+		for range 2 {
+			for range 60 {
+				list := w.live()
+				switch k := r.Intn(6); {
+				case k < 3 && len(list) < w.tree.conf.Procs && len(w.ops) < api.MaxSpawns:
+					w.spawn(t, someOp(r, w.tree.conf, many))
+				case k < 5 && len(list) > 0:
+					w.step(t, list[r.Intn(len(list))], r.Intn(100)-50)
+				default:
+					w.rests(t, r.Intn([]int{4, 8, 30, 101}[r.Intn(4)]), r.Intn(100)-50)
+				}
+				w.check(t)
+			}
+			w.clone().rest(t, r)
+			w.settle(t, r)
+		}
+	}
+}
+
 // key tells two trees apart that could go on otherwise.
 func (w *watched) key() string {
 	return fmt.Sprint(w.tree.nodes[:8], w.tree.procs, w.stepped)

@@ -69,7 +69,34 @@ func (t *Tree) Step(p int, draw int) (int, api.Errno) {
 }
 
 // Rest lets all live processes take steps, round by round (P10).
-func (t *Tree) Rest(rounds int, draw int) (int, api.Errno) { return 0, api.OK }
+func (t *Tree) Rest(rounds int, draw int) (int, api.Errno) {
+	if rounds < 0 || rounds > api.MaxRounds {
+		return 0, api.ErrRounds
+	}
+	first := modulo(draw, api.Turns)
+	for k := 0; k < rounds; k++ {
+		t.round(first + k)
+	}
+	return t.live(), api.OK
+}
 
 // Play plays a script and tells the answers (P11).
-func Play(c api.Config, text string) (string, api.Errno) { return "", api.OK }
+func Play(c api.Config, text string) (string, api.Errno) {
+	t, e := New(c)
+	if e != api.OK {
+		return "", e
+	}
+	list, good := readScript(text)
+	if !good {
+		return "", api.ErrText
+	}
+	answers := ""
+	for i := 0; i < len(list); i++ {
+		if i > 0 {
+			answers += ";"
+		}
+		answer := t.play(list[i])
+		answers += answer
+	}
+	return answers, api.OK
+}

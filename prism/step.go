@@ -30,6 +30,16 @@ func (t *Tree) step(p int, draw int) {
 	}
 }
 
+// round lets every live process take a step, by rising numbers. The draw is that
+// of process 0; each further number's is one more.
+func (t *Tree) round(draw int) {
+	for p := 0; p < len(t.procs); p++ {
+		if t.procs[p].phase != api.Done {
+			t.step(p, draw+p)
+		}
+	}
+}
+
 // look finds out how the process goes on at its node.
 func (q *process) look(n *node) {
 	switch {
